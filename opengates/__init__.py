@@ -1,0 +1,1 @@
+"""Opengates: what half-built nets can tell, in every surroundings."""

@@ -1,0 +1,35 @@
+"""The examples of the document, word for word."""
+
+import doctest
+import pathlib
+import unittest
+
+FOLDER = pathlib.Path(__file__).parent / "examples"
+SHARED = pathlib.Path(__file__).parent.parent.parent / "shared" / "DOC.md"
+HOW_MANY = {"books": 9, "scripts": 7}
+
+
+class Examples(unittest.TestCase):
+    def run_examples(self, name):
+        text = (FOLDER / f"{name}.txt").read_text()
+        test = doctest.DocTestParser().get_doctest(text, {}, name, str(FOLDER), 0)
+        told = []
+        result = doctest.DocTestRunner(verbose=False).run(test, out=told.append)
+        self.assertEqual(result.failed, 0, "".join(told))
+        self.assertEqual(result.attempted, HOW_MANY[name])
+
+    def test_books(self):
+        self.run_examples("books")
+
+    def test_scripts(self):
+        self.run_examples("scripts")
+
+    @unittest.skipUnless(SHARED.exists(), "the document is not beside this checkout")
+    def test_these_are_the_words_of_the_document(self):
+        document = SHARED.read_text()
+        for name in HOW_MANY:
+            self.assertIn((FOLDER / f"{name}.txt").read_text(), document)
+
+
+if __name__ == "__main__":
+    unittest.main()
