@@ -1,9 +1,9 @@
 """Books: what marks and roads are worth."""
 
+from opengates.checks import is_by
 from opengates.errors import BadBook, BadNames, NoKind, NoMark, NotAbove, OtherKinds, TooGreat, TooMany
 from opengates.words import integer_of, is_letters
 
-PRIMES = (2, 3, 5, 7, 11, 13, 17, 19, 23, 29, 31, 37, 41, 43, 47, 53, 59, 61, 67, 71, 73, 79, 83, 89, 97)
 GREATEST = 10 ** 12
 MOST_MARKS = 4
 MOST_KINDS = 3
@@ -148,7 +148,7 @@ def _read_by(words):
     if len(words) != 2 or words[0] != "book":
         return None
     by = integer_of(words[1], 2)
-    return by if by == 0 or by in PRIMES else None
+    return by if is_by(by) else None
 
 
 def _is_mark(words, by, weights):

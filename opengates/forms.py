@@ -36,15 +36,32 @@ def read_form(words, gates):
     return _read_product(words, gates)
 
 
-def write_line(name, form, parts):
-    """The text of a line."""
+def read_gates(words):
+    """The gates that these words tell, or None unless they ascend."""
+    found = tuple([gate_of(word) for word in words])
+    return None if None in found or found != _ascending(found) else found
+
+
+def write_form(form, parts):
+    """The text of a form, as it stands behind NAME =."""
     if form == "*":
-        return f"{name} = {parts[0]} * {parts[1]}"
+        return f"{parts[0]} * {parts[1]}"
     if form == "add":
         words = [f"{factor_word(factor)} {operand}" for factor, operand in parts]
     else:
         words = [str(part) for part in parts]
-    return " ".join([name, "=", form, *words])
+    return " ".join([form, *words])
+
+
+def operands_of(form, parts):
+    """The names of the lines that a line uses, as it tells them."""
+    if form == "*":
+        return parts
+    if form == "add":
+        return tuple([operand for factor, operand in parts])
+    if form == "close" or form == "turn":
+        return parts[-1:]
+    return ()
 
 
 def renamed_parts(form, parts, names):
@@ -58,11 +75,35 @@ def renamed_parts(form, parts, names):
     return parts
 
 
+def numbered(lines, first):
+    """The names of lines, and those that they get when they are counted from first on."""
+    return {line[0]: f"x{first + at}" for at, line in enumerate(lines)}
+
+
+def written(lines, names):
+    """The texts of lines, their names and operands called as names tells."""
+    rows = []
+    for name, form, parts in lines:
+        told = write_form(form, renamed_parts(form, parts, names))
+        rows.append(f"{names[name]} = {told}")
+    return rows
+
+
+def lines_of_last(lines):
+    """The last line and all those on which it hangs, in their sequence."""
+    wanted = {lines[-1][0]: True}
+    found = []
+    for name, form, parts in lines[::-1]:
+        if name in wanted:
+            found.append((name, form, parts))
+            for operand in operands_of(form, parts):
+                wanted[operand] = True
+    return found[::-1]
+
+
 def _read_one(words):
-    found = tuple([gate_of(word) for word in words])
-    if None in found or found != _ascending(found):
-        return None
-    return ("one", found, found)
+    found = read_gates(words)
+    return None if found is None else ("one", found, found)
 
 
 def _read_road(words):

@@ -2,7 +2,7 @@
 
 from opengates.checks import is_gate
 from opengates.errors import BadGates, BadScript, NoName, OtherGates
-from opengates.forms import read_line, renamed_parts, write_line
+from opengates.forms import numbered, read_line, written
 
 
 class Script:
@@ -83,11 +83,11 @@ def exchanged(script, name, other):
     ahead = script.lines[:at]
     behind = script.lines[at + 1:]
     last = at + len(other.lines)
-    names = _numbered(ahead, 1)
+    names = numbered(ahead, 1)
     # Who used the line of this name finds the other script's last line under it.
     names[name] = f"x{last}"
-    names.update(_numbered(behind, last + 1))
-    rows = _written(ahead, names) + _rows(other.lines, at + 1) + _written(behind, names)
+    names.update(numbered(behind, last + 1))
+    rows = written(ahead, names) + _rows(other.lines, at + 1) + written(behind, names)
     return _script_of(rows, [])
 
 
@@ -116,22 +116,9 @@ def _can_turn(gates, one, other):
     return one in gates or other in gates
 
 
-def _numbered(lines, first):
-    """The names of lines, and those that they get when they are counted from first on."""
-    return {line[0]: f"x{first + at}" for at, line in enumerate(lines)}
-
-
-def _written(lines, names):
-    """The texts of lines, their names and operands called as names tells."""
-    return [
-        write_line(names[name], form, renamed_parts(form, parts, names))
-        for name, form, parts in lines
-    ]
-
-
 def _rows(lines, first):
     """The texts of all lines of a script, called x and a number from first on."""
-    return _written(lines, _numbered(lines, first))
+    return written(lines, numbered(lines, first))
 
 
 def _rows_of_both(one, other):

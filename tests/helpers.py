@@ -2,8 +2,10 @@
 
 import copy
 
+from opengates.arounds import Around
 from opengates.books import Book
 from opengates.scripts import Script
+from opengates.tables import Table, table
 
 
 def nested(value, depth):
@@ -20,6 +22,8 @@ def not_strings():
         {}, {"a": 1}, {1: ("a", [True])}, nested("a", 30), nested([], 29), nested(1, 28),
         Book("book 0\nmark a 1\nkind k 1"), Script("script\na = one 1"),
         [Book("book 0\nmark a 1\nkind k 1")], (Script("script\na = one 1"), {"a": ()}),
+        Around("around h 1\na = close 1 h"), table(Book("book 0\nmark a 1\nkind k 1"), Script("script\na = one 1")),
+        (Around("around h\na = add 1 h"),),
     ]
 
 
@@ -54,7 +58,7 @@ def expect_very(test, error, value, call, *arguments, **named):
 
 def looks(value):
     """All that can be seen of a value, its kinds and what objects hold included."""
-    if isinstance(value, (Book, Script)):
+    if isinstance(value, (Around, Book, Script, Table)):
         return (type(value).__name__, looks(vars(value)))
     if isinstance(value, (tuple, list)):
         return (type(value).__name__, [looks(part) for part in value])

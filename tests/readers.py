@@ -98,3 +98,28 @@ def factor_stands(word):
     if len(top.strip("-")) > 1000 or len(bottom) > 1000:
         return False
     return not slash or (int(bottom) > 1 and math.gcd(int(top), int(bottom)) == 1)
+
+
+def around_fault(text):
+    """The number that BadAround would keep, or None."""
+    lines = text.split("\n")
+    head = re.fullmatch(rf"around ({LINE_NAME})((?: [1-4])*)", lines[0])
+    own = [int(word) for word in head[2].split()] if head else []
+    if not head or any(one >= other for one, other in zip(own, own[1:])):
+        return 1
+    gates = {head[1]: set(own)}
+    hanging = {head[1]}
+    for number, line in enumerate(lines[1:], 2):
+        found = re.fullmatch(rf"({LINE_NAME}) = (.*)", line)
+        its = form_gates(found[2], gates) if found else None
+        if its is None or found[1] in gates:
+            return number
+        words = [word in hanging for word in found[2].split(" ") if word in gates]
+        if any(words):
+            if found[2].startswith("add ") and not all(words) or " * " in found[2] and all(words):
+                return number
+            hanging.add(found[1])
+        gates[found[1]] = its
+    if len(lines) == 1:
+        return 2
+    return None if not gates[found[1]] and found[1] in hanging else len(lines)

@@ -6,7 +6,7 @@ import unittest
 
 FOLDER = pathlib.Path(__file__).parent / "examples"
 SHARED = pathlib.Path(__file__).parent.parent.parent / "shared" / "DOC.md"
-HOW_MANY = {"books": 9, "scripts": 7}
+HOW_MANY = {"books": 9, "scripts": 7, "nets": 9, "tables": 11, "arounds": 9, "spans": 8}
 
 
 class Examples(unittest.TestCase):
@@ -23,6 +23,18 @@ class Examples(unittest.TestCase):
 
     def test_scripts(self):
         self.run_examples("scripts")
+
+    def test_nets(self):
+        self.run_examples("nets")
+
+    def test_tables(self):
+        self.run_examples("tables")
+
+    def test_arounds(self):
+        self.run_examples("arounds")
+
+    def test_spans(self):
+        self.run_examples("spans")
 
     @unittest.skipUnless(SHARED.exists(), "the document is not beside this checkout")
     def test_these_are_the_words_of_the_document(self):

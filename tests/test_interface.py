@@ -5,7 +5,8 @@ import inspect
 import pathlib
 import unittest
 
-from opengates import books, scripts
+from opengates import arounds, books, nets, scripts, spans, tables
+from opengates.arounds import Around
 from opengates.books import Book
 from opengates.scripts import Script
 
@@ -24,7 +25,21 @@ PARAMETERS = {
         "Script.__add__": None, "Script.__sub__": None, "Script.__neg__": ["self"],
         "exchanged": ["script", "name", "other"],
     },
+    "nets": {"net": ["script"], "by_ways": ["book", "net", "row"], "script_of": ["net"]},
+    "tables": {
+        "Table": None, "Table.__getitem__": None, "Table.__add__": None, "Table.__mul__": None, "Table.__eq__": None,
+        "table": ["book", "script"], "count": ["book", "script"], "line_tables": ["book", "script"],
+    },
+    "arounds": {
+        "Around": ["text"], "Around.__eq__": None, "filled": ["around", "script"], "about": ["around"],
+        "around_of": ["script"], "paired": ["book", "one", "other"],
+    },
+    "spans": {
+        "in_span": ["by", "rows", "row"], "shows_in_span": ["by", "rows", "row", "value"], "kernel": ["by", "rows"],
+        "shows_kernel": ["by", "rows", "value"], "determinant": ["by", "rows"],
+    },
 }
+MODULES = {"books": books, "scripts": scripts, "nets": nets, "tables": tables, "arounds": arounds, "spans": spans}
 
 
 def defined(name):
@@ -44,10 +59,9 @@ class Interface(unittest.TestCase):
             self.assertEqual([one for one in wanted if one not in defined(name)], [])
 
     def test_parameters_are_called_as_in_the_sections(self):
-        modules = {"books": books, "scripts": scripts}
         for module, wanted in PARAMETERS.items():
             for name, parameters in wanted.items():
-                value = modules[module]
+                value = MODULES[module]
                 for part in name.split("."):
                     value = getattr(value, part)
                 if parameters is not None:
@@ -67,11 +81,38 @@ class Interface(unittest.TestCase):
         self.assertEqual([script.gates_of(name="a"), script.turned(other=3, one=1).gates], [(1, 2), (2, 3)])
         self.assertEqual(scripts.exchanged(other=script, name="a", script=script).lines[0][0], "x1")
 
+    def test_arguments_of_nets_and_tables_by_name(self):
+        book = Book("book 0\nmark a 1\nmark b 2\nkind k 1 2 3 4")
+        script = Script("script\na = road k 1 2")
+        found = nets.net(script=script)
+        self.assertEqual(nets.by_ways(row=("a", "b"), net=found, book=book), (2, 1))
+        self.assertEqual(nets.script_of(net=found).gates, (1, 2))
+        self.assertEqual(tables.table(script=script, book=book).worths, ((1, 1), (2, 1), (3, 1), (4, 1)))
+        self.assertEqual(tables.line_tables(script=script, book=book), (("a", ((1, 1), (2, 1), (3, 1), (4, 1))),))
+        self.assertEqual(tables.count(script=script.closed(), book=book), (1 + 4 + 6 + 16, 1))
+
+    def test_arguments_of_arounds_and_spans_by_name(self):
+        book = Book("book 0\nmark a 1\nmark b 2\nkind k 1 2 3 4")
+        script = Script("script\na = one 1")
+        around = Around(text="around h 1\na = close 1 h")
+        self.assertEqual(len(arounds.filled(script=script, around=around)), 2)
+        self.assertEqual(arounds.about(around=around).gates, (1,))
+        self.assertEqual(arounds.around_of(script=script).gates, (1,))
+        self.assertEqual(arounds.paired(other=script, one=-script, book=book), (-3, 1))
+        rows, row = (((2, 1),),), ((1, 1),)
+        self.assertEqual(spans.in_span(row=row, rows=rows, by=0), ("sum", ((1, 2),)))
+        self.assertTrue(spans.shows_in_span(value=("sum", ((1, 2),)), row=row, rows=rows, by=0))
+        self.assertEqual(spans.kernel(rows=rows, by=0), ())
+        self.assertTrue(spans.shows_kernel(value=(), rows=rows, by=0))
+        self.assertEqual(spans.determinant(rows=rows, by=0), (2, 1))
+
     def test_attributes_are_there_when_the_object_is(self):
         book = Book("book 0\nmark a 1\nkind k 1")
         script = Script("script\na = one 1")
         self.assertLessEqual({"text", "by", "marks", "kinds"}, set(vars(book)))
         self.assertLessEqual({"text", "gates", "width", "lines", "is_plain"}, set(vars(script)))
+        self.assertLessEqual({"book", "gates", "rows", "worths"}, set(vars(tables.table(book, script))))
+        self.assertLessEqual({"text", "hole", "gates", "width", "lines"}, set(vars(arounds.around_of(script))))
 
 
 if __name__ == "__main__":

@@ -10,26 +10,29 @@ FOLDER = pathlib.Path(__file__).parent.parent / "opengates"
 FILES = sorted(FOLDER.rglob("*.py"))
 TREES = {path: ast.parse(path.read_text()) for path in FILES}
 
-STATEMENTS = (ast.FunctionDef, ast.ClassDef, ast.Return, ast.Assign, ast.For, ast.While, ast.If, ast.Raise, ast.Expr,
-              ast.Pass, ast.Break, ast.Continue, ast.ImportFrom)
+STATEMENTS = (ast.FunctionDef, ast.ClassDef, ast.Return, ast.Assign, ast.AugAssign, ast.For, ast.While, ast.If, ast.Raise,
+              ast.Expr, ast.Pass, ast.Break, ast.Continue, ast.ImportFrom)
 PARTS = (ast.Module, ast.expr_context, ast.operator, ast.unaryop, ast.boolop, ast.cmpop, ast.arguments, ast.arg,
          ast.keyword, ast.comprehension)
 EXPRESSIONS = (ast.Name, ast.Constant, ast.Tuple, ast.List, ast.Dict, ast.BinOp, ast.UnaryOp, ast.BoolOp, ast.Compare,
                ast.Call, ast.Attribute, ast.Subscript, ast.Slice, ast.IfExp, ast.ListComp, ast.DictComp, ast.JoinedStr,
                ast.FormattedValue, ast.Starred)
 BUILTINS = set("""len range enumerate zip min max sum abs sorted reversed int str bool list tuple dict set isinstance ord
-    repr any all divmod ValueError NotImplemented""".split())
-LIBRARY = {"math": {"gcd"}}
+    repr any all divmod ValueError TypeError NotImplemented""".split())
+LIBRARY = {"math": {"gcd", "lcm"}}
 METHODS = set("""append clear copy count endswith extend find get index insert isalnum isalpha isdigit islower isspace
     isupper items join keys ljust lower lstrip partition pop remove replace reverse rfind rjust rpartition rsplit rstrip
     setdefault split splitlines startswith strip update upper values zfill bit_length removeprefix removesuffix""".split())
-DOUBLE = set("""__init__ __eq__ __repr__ __str__ __len__ __contains__ __add__ __sub__ __mul__ __neg__""".split())
+DOUBLE = set("""__init__ __eq__ __repr__ __str__ __len__ __contains__ __add__ __sub__ __mul__ __neg__ __getitem__
+    __iter__""".split())
 NOWHERE = set("""register mro elements open input law version_info with_traceback add_note""".split())
 NO_NAMES = set("""attrgetter breakpoint builtins compile copyright credits delattr dir eval exec exit gc getattr globals
     hasattr help id importlib license locals methodcaller os quit setattr super type vars sys""".split())
 NO_WORDS = set("""type typing typing_extensions enum Enum IntEnum StrEnum Flag IntFlag Generic Protocol ABC ABCMeta
     namedtuple NamedTuple TypedDict TYPE_CHECKING abstractmethod dataclass overload contextmanager""".split())
-OPERATORS = {"__add__", "__sub__", "__mul__", "__neg__", "__contains__", "__eq__", "__len__"}
+OPERATORS = {"__add__", "__sub__", "__mul__", "__neg__", "__contains__", "__eq__", "__len__", "__getitem__"}
+# The document calls parameters of this file as it calls a function of it.
+SAME_NAMES = {"nets.py": {"net"}}
 
 
 def nodes(kind):
@@ -123,6 +126,7 @@ class Imports(unittest.TestCase):
                     continue
                 source = FOLDER.parent / (node.module.replace(".", "/") + ".py")
                 defined = {part.name for part in TREES[source].body if isinstance(part, (ast.FunctionDef, ast.ClassDef))}
+                defined |= {part.targets[0].id for part in TREES[source].body if isinstance(part, ast.Assign)}
                 self.assertLessEqual(names, defined, path)
 
     def test_no_two_files_import_from_each_other(self):
@@ -168,6 +172,7 @@ class NamesAndCalls(unittest.TestCase):
         for path, tree in TREES.items():
             taken = {node.name for node in tree.body if isinstance(node, (ast.FunctionDef, ast.ClassDef))}
             taken |= {alias.name for node in tree.body if isinstance(node, ast.ImportFrom) for alias in node.names}
+            taken -= SAME_NAMES.get(path.name, set())
             for node in ast.walk(tree):
                 if isinstance(node, ast.arg):
                     self.assertNotIn(node.arg, taken, path)
@@ -204,11 +209,44 @@ class Classes(unittest.TestCase):
         for name, node in nodes(ast.FunctionDef):
             if node.name.startswith("__"):
                 self.assertIn(node.name, DOUBLE, name)
-            if node.name in DOUBLE - {"__init__"}:
+            if node.name in DOUBLE - {"__init__", "__iter__"}:
                 self.assertIsInstance(node.body[-1], ast.Return, name)
 
+    def test_who_is_asked_by_an_index_is_not_iterated_over(self):
+        for name, node in nodes(ast.ClassDef):
+            methods = {part.name: part for part in node.body if isinstance(part, ast.FunctionDef)}
+            self.assertEqual("__getitem__" in methods, "__iter__" in methods, name)
+            if "__iter__" in methods:
+                self.assertEqual(ast.unparse(methods["__iter__"].body[-1])[:17], "raise TypeError('", name)
+                self.assertEqual(len(methods["__iter__"].body), 1)
+
+    def test_imports_are_used(self):
+        for path, tree in TREES.items():
+            names = {alias.name for node in tree.body if isinstance(node, ast.ImportFrom) for alias in node.names}
+            used = {node.id for node in ast.walk(tree) if isinstance(node, ast.Name)}
+            self.assertEqual(names - used, set(), path)
+
+    def test_what_builtins_are_passed(self):
+        for name, node in nodes(ast.Call):
+            called = node.func.id if isinstance(node.func, ast.Name) else None
+            if called == "reversed":
+                self.assertIn(getattr(getattr(node.args[0], "func", None), "id", None), ("list", "tuple", "sorted", "range"), name)
+            if called in ("zip", "enumerate", "range"):
+                parents = [part for _, part in nodes((ast.For, ast.comprehension)) if part.iter is node]
+                outer = [part for _, part in nodes(ast.Call) if node in part.args and isinstance(part.func, ast.Name)
+                         and part.func.id in ("tuple", "list", "sorted", "zip", "enumerate", "sum", "any", "all", "dict")]
+                self.assertTrue(parents or outer, (name, node.lineno))
+
+    def test_exponents_are_literals(self):
+        for name, node in nodes(ast.BinOp):
+            if isinstance(node.op, ast.Pow):
+                self.assertIsInstance(node.right, ast.Constant, name)
+                self.assertTrue(0 <= node.right.value <= 64, name)
+
     def test_what_operators_run_changes_only_what_it_made(self):
-        functions = {node.name: node for _, node in nodes(ast.FunctionDef)}
+        functions = {}
+        for _, node in nodes(ast.FunctionDef):
+            functions.setdefault(node.name, []).append(node)
         ready = [name for name in OPERATORS if name in functions] + ["__init__"]
         seen = set()
         while ready:
@@ -216,10 +254,9 @@ class Classes(unittest.TestCase):
             if name in seen or name not in functions:
                 continue
             seen.add(name)
-            called = [node.func for node in ast.walk(functions[name]) if isinstance(node, ast.Call)]
+            called = [node.func for own in functions[name] for node in ast.walk(own) if isinstance(node, ast.Call)]
             ready += [part.id if isinstance(part, ast.Name) else part.attr for part in called]
-        for name in seen - {"__init__"}:
-            node = functions[name]
+        for name, node in [(name, node) for name in seen - {"__init__"} for node in functions[name]]:
             fresh = {part.targets[0].id for part in ast.walk(node) if isinstance(part, ast.Assign)
                      and isinstance(part.targets[0], ast.Name)
                      and isinstance(part.value, (ast.List, ast.Dict, ast.ListComp, ast.DictComp))}
@@ -228,6 +265,8 @@ class Classes(unittest.TestCase):
                     self.assertIn(getattr(part.value, "id", None), fresh, name)
                 if isinstance(part, ast.Attribute) and part.attr in ("append", "extend", "update", "setdefault", "pop"):
                     self.assertIn(getattr(part.value, "id", None), fresh, name)
+                if isinstance(part, ast.AugAssign):
+                    self.assertIsInstance(part.value, ast.Constant, name)
 
 
 if __name__ == "__main__":

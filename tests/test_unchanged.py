@@ -2,9 +2,13 @@
 
 import unittest
 
+from opengates.arounds import about, Around, around_of, filled, paired
 from opengates.books import Book, joined, melted, multiplied, renamed, renamings, twins
 from opengates.errors import GateError
+from opengates.nets import by_ways, net, script_of
 from opengates.scripts import exchanged, Script
+from opengates.spans import determinant, in_span, kernel, shows_in_span, shows_kernel
+from opengates.tables import count, line_tables, Table, table
 from tests.helpers import any_values, looks
 
 
@@ -23,6 +27,64 @@ def scripts():
         Script("script\na = road k 1 2\nb = close 2 a\nc = turn 1 3 b\nd = turn 3 1 c\ne = add 1/2 d -3 d"),
         Script("script\na = one\nx1 = one 1 2 3 4"),
     ]
+
+
+def arounds():
+    return [
+        Around("around h 1\nr = road k 1 2\na = h * r\nb = close 1 a\nc = add 1/2 b -3 b\nd = close 2 c"),
+        Around("around h 1 3\na = turn 1 2 h\nb = close 2 a\nc = close 3 b\nd = add 1 c"),
+        Around("around h\na = one 1\nb = close 1 a\nc = h * b"),
+    ]
+
+
+def nets():
+    return [
+        (0, (), ()), (3, (("k", 0, 1), ("l", 1, 2)), ((1, 0), (3, 2))), (2, (("k", 0, 1), ("k", 0, 1)), ((2, 1),)),
+        (5, tuple(("k", one, other) for one in range(5) for other in range(5)), ()), (9, (), ()), [0, (), ()], (1, [], ()), (14, (), ()),
+    ]
+
+
+def matrices():
+    one, two, half, none = (1, 1), (2, 1), (1, 2), (0, 1)
+    return [((one, two), (none, one)), ((one, two), (two, (4, 1))), ((one, one, one),), ((half,),), [(one,)], ([one],), ((one, two), (one,))]
+
+
+def calls_of_nets_and_tables():
+    found = []
+    for book in books():
+        for script in scripts():
+            found += [(call, [book, script]) for call in (table, count, line_tables)]
+            found += [(count, [book, script.closed()]), (paired, [book, script, script]), (paired, [book, script, scripts()[0]])]
+        for one in nets():
+            for row in ((), ("a",), ("a", "b"), ["a"], None, ("z",)):
+                found.append((by_ways, [book, one, row]))
+        tables = [table(book, script) for script in scripts() if book.by != 5 and "l" in book.kinds] + [table(book, Script("script\na = one 1"))]
+        for one in tables:
+            found += [(lambda one, row: one[row], [one, row]) for row in (("a",), ("a", "b"), ["a"], None, ())]
+            for other in tables:
+                found += [(lambda one, other: one + other, [one, other]), (lambda one, other: one * other, [one, other]),
+                          (lambda one, other: (one == other, one != other), [one, other])]
+    found += [(net, [script]) for script in scripts()[:2] + [scripts()[0].closed(), scripts()[0] * scripts()[2]]]
+    return found + [(script_of, [one]) for one in nets()]
+
+
+def calls_of_arounds_and_spans():
+    found = []
+    for one in arounds():
+        found.append((about, [one]))
+        for script in scripts():
+            found += [(filled, [one, script]), (around_of, [script])]
+        found += [(filled, [one, about(one)]), (lambda one, other: (one == other, one != other), [one, arounds()[0]])]
+    for by in (0, 2, 5, True, 4):
+        for rows in matrices():
+            found += [(kernel, [by, rows]), (determinant, [by, rows])]
+            for row in (((1, 1), (0, 1)), ((3, 1), (6, 1)), [(1, 1), (1, 1)], None):
+                found.append((in_span, [by, rows, row]))
+                for value in (("sum", ((1, 1), (1, 1))), ["sum", [(1, 1)]], ("barred", ((2, 1), (-1, 1))), {"sum": [1]}):
+                    found.append((shows_in_span, [by, rows, row, value]))
+            for value in ((), (((-2, 1), (1, 1)),), [((-2, 1), (1, 1))], ([(-2, 1), (1, 1)],), {0: [1]}):
+                found.append((shows_kernel, [by, rows, value]))
+    return found
 
 
 def calls():
@@ -46,8 +108,10 @@ def calls():
             found += [(one.turned, [1, value]), (one.turned, [value, 3]), (one.gates_of, [value]),
                       (lambda one, value: value in one, [one, value])]
     for value in any_values():
-        found += [(Book, [value]), (Script, [value])]
-    return found
+        found += [(Book, [value]), (Script, [value]), (Around, [value]), (script_of, [value]), (by_ways, [books()[0], value, value]),
+                  (in_span, [value, value, value]), (in_span, [0, value, value]), (in_span, [0, matrices()[0], value]),
+                  (shows_in_span, [0, matrices()[0], matrices()[0][0], value]), (shows_kernel, [0, matrices()[0], value])]
+    return found + calls_of_nets_and_tables() + calls_of_arounds_and_spans()
 
 
 def outcome(call, arguments):
@@ -72,12 +136,30 @@ class Unchanged(unittest.TestCase):
         def only_fixed(value):
             if isinstance(value, tuple):
                 return all(only_fixed(part) for part in value)
-            return isinstance(value, (int, str, Book, Script))
+            return isinstance(value, (int, str, Around, Book, Script, Table))
 
         for one in books():
             self.assertTrue(only_fixed((one.text, one.by, one.marks, one.kinds, twins(one), renamings(one, one))))
         for one in scripts():
             self.assertTrue(only_fixed((one.text, one.gates, one.width, one.lines, one.is_plain, one.gates_of("a"))))
+
+    def test_new_results_hold_nothing_that_can_be_changed(self):
+        def only_fixed(value):
+            if isinstance(value, (tuple, Table)):
+                return all(only_fixed(part) for part in (value if isinstance(value, tuple) else vars(value).values()))
+            return isinstance(value, (int, str, Around, Book, Script))
+
+        many = 0
+        for call, arguments in calls_of_nets_and_tables() + calls_of_arounds_and_spans():
+            try:
+                told = call(*arguments)
+            except GateError:
+                continue
+            self.assertTrue(only_fixed(told), (call, arguments))
+            many += 1
+        self.assertGreater(many, 200)
+        for one in arounds():
+            self.assertTrue(only_fixed((one.text, one.hole, one.gates, one.width, one.lines)))
 
     def test_operands_in_place_are_as_they_were(self):
         one, other = scripts()[:2]
@@ -85,6 +167,12 @@ class Unchanged(unittest.TestCase):
         one *= other
         one = kept
         one += other
+        self.assertEqual(looks(kept), before)
+        self.assertIsNot(one, kept)
+        one = kept = table(books()[0], scripts()[0])
+        before = looks(kept)
+        one *= one
+        one += one
         self.assertEqual(looks(kept), before)
         self.assertIsNot(one, kept)
 
