@@ -38,7 +38,8 @@ def _beside(near, place, done):
     ready = [place]
     found = []
     while ready:
-        for other in near[ready.pop()]:
+        at = ready.pop()
+        for other in near[at]:
             if other in seen:
                 continue
             seen[other] = True

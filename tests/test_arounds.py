@@ -92,7 +92,7 @@ class Paired(unittest.TestCase):
         self.assertEqual(paired(BOOK, one, other), ((-6 * 5 + 6 * 7 + 9 * 22) // 2, 1))
         self.assertEqual(paired(BOOK, other, one), (105, 1))
         self.assertEqual(paired(FIVE, one, other), ((6 * 0 + 6 * 2 * 4 + 9 * 4 * 2) * 3 % 5, 1))
-        self.assertEqual(paired(BOOK, script("a = one 4"), script("a = one 4", "b = add 1/3 a")), ((-1, 3),)[0])
+        self.assertEqual(paired(BOOK, script("a = one 4"), script("a = one 4", "b = add 1/3 a")), (-1, 3))
 
     def test_without_gates_it_is_the_product(self):
         one, other = script("a = one", "b = add 2/3 a"), script("a = one", "b = add 5/7 a")
@@ -348,6 +348,39 @@ class AroundOf(unittest.TestCase):
         self.assertEqual(table(BOOK, about(around_of(script("d = one 1")))).worths, ((1, 1), (1, 1)))
         self.assertLessEqual(kinds_of(around_of(one).lines), {"m"})
         self.assertLessEqual(kinds_of(about(around_of(one)).lines), {"m"})
+
+
+class OtherNames(unittest.TestCase):
+    def test_other_names_of_lines_and_of_the_hole_change_nothing_else(self):
+        chance = random.Random(76)
+        for _ in range(100):
+            one = draw_around(chance, (2, 3), lines=9)
+            names = [f"y{at}" for at in range(len(one.lines) + 1)]
+            chance.shuffle(names)
+            words = dict(zip([one.hole] + [name for name, _, _ in one.lines], names))
+            other = Around("\n".join(renamed(row, words) for row in one.text.split("\n")))
+            self.assertEqual((other.hole, other.gates, other.width), (words[one.hole], one.gates, one.width))
+            self.assertEqual([words[name] for name, _, _ in one.lines], [name for name, _, _ in other.lines])
+            two = draw_script(chance, gates=(2, 3))
+            self.assertEqual(filled(other, two), filled(one, two))
+            self.assertEqual(about(other), about(one))
+            its = {name: f"z{at}" for at, (name, _, _) in enumerate(two.lines)}
+            three = Script("\n".join(renamed(row, its) for row in two.text.split("\n")))
+            self.assertEqual(filled(one, three), filled(one, two))
+            book = draw_book(chance)
+            self.assertEqual(table(book, about(around_of(three))), table(book, about(around_of(two))))
+
+    def test_read_back_from_the_text(self):
+        chance = random.Random(77)
+        for _ in range(100):
+            one = draw_around(chance, (1,))
+            other = around_of(draw_script(chance))
+            for found in (one, other):
+                again = Around(found.text)
+                self.assertEqual((again, vars(again)), (found, vars(found)))
+            for found in (about(one), about(other), filled(one, Script("script\na = one 1"))):
+                again = Script(found.text)
+                self.assertEqual((again, vars(again)), (found, vars(found)))
 
 
 class Line(unittest.TestCase):

@@ -22,8 +22,9 @@ class Values(unittest.TestCase):
     """BadNet, as by_ways and script_of tell it."""
 
     def good(self, value):
-        found = [call(value) for call in (lambda one: by_ways(BOOK, one, ("m",) * len(one[2])),)]
-        self.assertEqual(found, [(3 ** len(value[1]) * 2 ** (value[0] - len(value[2])), 1)])
+        places, roads, gates = value
+        worth = 3 ** len(roads) * 2 ** (places - len(gates))
+        self.assertEqual(by_ways(BOOK, value, ("m",) * len(gates)), (worth, 1))
         if value[0] <= 8:
             script_of(value)
         else:
@@ -206,6 +207,31 @@ class Refused(unittest.TestCase):
         self.assertEqual(len(net(script("a = road k 1 2", *doubled("a", 400)))[1]), 400)
         expect(self, TooMany, 401, net, script("a = road k 1 2", *doubled("a", 401)))
 
+    def test_only_roads_are_counted_as_roads(self):
+        ones = ["o = one 1", "p = one 1 2", "q = o * p", "r = close 1 o", "s = turn 1 2 q", "t = s * r"]
+        for many in (399, 400):
+            lines = ["a = road k 1 2", *doubled("a", many)]
+            last = lines[-1].split(" ")[0]
+            found = net(script(*ones, *lines, f"z = {last} * t"))
+            self.assertEqual((found[0], found[1]), (3, (("k", 0, 1),) * many))
+        lines = ["a = road k 1 2", *doubled("a", 401)]
+        expect(self, TooMany, 401, net, script(*ones, *lines, f"z = {lines[-1].split(' ')[0]} * t"))
+        expect(self, TooMany, 403, net, script(*ones, *lines, f"y = {lines[-1].split(' ')[0]} * a", "x = y * t", "z = a * x"))
+
+    def test_places_at_gates_of_both_are_counted_once(self):
+        # 56 closed places beside those at the gates of both.
+        lines = ["a = one 1", "c0 = close 1 a", *doubled("c0", 56)]
+        last = lines[-1].split(" ")[0]
+        for gates, other, places in ((" 1 2 3", " 1 2 3", 59), (" 1 2 3", " 2 3 4", 60), (" 1 2", " 3 4", 60), ("", " 1 2 3 4", 60),
+                                     (" 1 2 3 4", " 1 2 3 4", 60)):
+            found = net(script(*lines, f"x = one{gates}", f"y = one{other}", "z = x * y", f"w = z * {last}"))
+            self.assertEqual(found[0], places)
+            more = script(*lines, f"x = one{gates}", f"y = one{other}", f"v = {last} * x", "u = c0 * y", "z = u * v", "w = z * c0")
+            if places == 60:
+                expect(self, TooMany, 62, net, more)
+            else:
+                expect(self, TooMany, 61, net, more)
+
     def test_places_come_ahead_of_roads(self):
         rows = ["a = road k 1 2", "b = close 1 a", "c = close 2 b"]
         expect(self, TooMany, 802, net, script(*rows, *doubled("c", 401)))
@@ -240,7 +266,7 @@ def doubled(name, many):
         if many >> at > 1:
             rows.append(f"d{at} = {name} * {name}")
             name = f"d{at}"
-    # The sum of all that are wanted stands last, but for a power of two.
+    # All of them together stand last, also for a power of two.
     return rows
 
 

@@ -293,6 +293,16 @@ class ShowsInSpan(unittest.TestCase):
         # It bars all rows but one.
         self.assertIs(shows_in_span(0, self.rows + whole([1, 1]), ((0, 1), (1, 1)), ("barred", whole([2, -1])[0])), False)
 
+    def test_words(self):
+        bars, sums = ((2, 1), (-1, 1)), ((3, 1), (0, 1), (0, 1))
+        for word in ("", "Barred", "bar", "barred ", " barred", "bars", "none", "sum", "sums", ("barred",), None, 1, True):
+            self.assertIs(shows_in_span(0, self.rows, ((1, 1), (1, 1)), (word, bars)), False)
+            self.assertIs(shows_in_span(0, self.rows + whole([5, 5]), ((1, 1), (1, 1)), (word, sums)), False)
+        for word in ("", "Sum", "sum ", "barred", "add"):
+            self.assertIs(shows_in_span(0, self.rows, ((3, 1), (6, 1)), (word, sums)), False)
+        self.assertIs(shows_in_span(0, self.rows, ((1, 1), (1, 1)), ("barred", bars)), True)
+        self.assertIs(shows_in_span(0, self.rows, ((3, 1), (6, 1)), ("sum", sums)), True)
+
     def test_near_values(self):
         row = ((3, 1), (6, 1))
         right = ("sum", ((1, 1), (1, 1), (0, 1)))
