@@ -1,13 +1,11 @@
 """Arounds: scripts with a hole, and what they count with."""
 
 from opengates.errors import BadAround, OtherGates
-from opengates.forms import lines_of_last, numbered, operands_of, read_gates, read_line, renamed_parts
-from opengates.forms import write_form, written
-from opengates.rows import rows_of
+from opengates.forms import lines_of_last, numbered, operands_of, read_gates, read_line, written
 from opengates.scripts import Script
 from opengates.words import is_line_name
-from opengates.worked import last_worths, need_fit
-from opengates.worths import UNIT, paired_sum, times, worth_of
+from opengates.worked import last_worths, need_fit, row_weights
+from opengates.worths import UNIT, paired_sum, times
 from opengates.writers import Writer
 
 HOLE = "h"
@@ -48,21 +46,21 @@ def about(around):
     lines = lines_of_last(around.lines)
     hanging = [line for line in lines if line[0] in around._hanging]
     writer = Writer()
-    names = _write_lines(writer, [line for line in lines if line[0] not in around._hanging])
+    names = writer.write([line for line in lines if line[0] not in around._hanging])
     # Each line that hangs counts with the sum of all that the lines behind it hand on to it.
     handed = {lines[-1][0]: [(UNIT, writer.line("one"))]}
     for line in hanging[::-1]:
-        counter = _summed_line(writer, handed[line[0]])
+        counter = writer.summed(handed[line[0]])
         for operand, factor, name in _handed_on(around, line, counter, names, writer):
             handed.setdefault(operand, []).append((factor, name))
-    _summed_line(writer, handed[around.hole])
+    writer.summed(handed[around.hole])
     return writer.script()
 
 
 def around_of(script):
     """The around that counts with a script: the script laid on the hole, all gates closed."""
     writer = Writer()
-    names = _write_lines(writer, script.lines)
+    names = writer.write(script.lines)
     last = writer.together([names[script.lines[-1][0]], HOLE])
     writer.closed(script.gates, last)
     words = ["around", HOLE] + [str(gate) for gate in script.gates]
@@ -78,18 +76,7 @@ def paired(book, one, other):
     ones = last_worths(book, one)
     others = last_worths(book, other)
     both = [times(book.by, worth, more) for worth, more in zip(ones, others)]
-    return paired_sum(book.by, _row_weights(book, len(one.gates)), both)
-
-
-def _row_weights(book, many):
-    """For each row of so many marks, the product of their weights."""
-    found = []
-    for row in rows_of(book.marks, many):
-        weight = 1
-        for mark in row:
-            weight = weight * book.weight(mark)
-        found.append(worth_of(book.by, weight, 1))
-    return found
+    return paired_sum(book.by, row_weights(book, len(one.gates)), both)
 
 
 def _read_around(text):
@@ -139,14 +126,6 @@ def _may_stand(form, parts, hanging):
     return many < 2
 
 
-def _write_lines(writer, lines):
-    """Writes lines that hang on none but these, and tells the dict of their new names."""
-    names = {}
-    for name, form, parts in lines:
-        names[name] = writer.line(write_form(form, renamed_parts(form, parts, names)))
-    return names
-
-
 def _handed_on(around, line, counter, names, writer):
     """Triples of an operand that hangs, a factor, and a line: what the operand counts with by this line.
 
@@ -166,10 +145,3 @@ def _handed_on(around, line, counter, names, writer):
     left = [gate for gate in around._gates_by_name[name] if gate not in own]
     found = writer.together([names[other], counter])
     return [(operand, UNIT, writer.closed(left, found))]
-
-
-def _summed_line(writer, terms):
-    """The name of a line that is the sum of these pairs of a factor and a line."""
-    if len(terms) == 1 and terms[0][0] == UNIT:
-        return terms[0][1]
-    return writer.line(write_form("add", terms))

@@ -1,7 +1,8 @@
 """Books: what marks and roads are worth."""
 
+from opengates.bounds import need_one_sort
 from opengates.checks import is_by
-from opengates.errors import BadBook, BadNames, NoKind, NoMark, NotAbove, OtherKinds, TooGreat, TooMany
+from opengates.errors import BadBook, BadNames, NoKind, NoMark, NotAbove, TooGreat, TooMany
 from opengates.words import integer_of, is_letters
 
 GREATEST = 10 ** 12
@@ -53,7 +54,7 @@ class Book:
 
 def renamings(one, other):
     """All tuples of other's marks that can stand for one's marks, ascending."""
-    _need_one_sort(one, other)
+    need_one_sort(one, other)
     if len(one.marks) != len(other.marks):
         return ()
     found = [()]
@@ -93,7 +94,7 @@ def melted(book):
 
 def multiplied(one, other):
     """The book of all pairs of a mark of one and a mark of other."""
-    _need_one_sort(one, other)
+    need_one_sort(one, other)
     pairs = [(mark, its) for mark in one.marks for its in other.marks]
     if len(pairs) > MOST_MARKS:
         raise TooMany(len(pairs))
@@ -112,7 +113,7 @@ def multiplied(one, other):
 
 def joined(one, other):
     """The book with the marks of both, worth nothing from one's to other's."""
-    _need_one_sort(one, other)
+    need_one_sort(one, other)
     many = len(one.marks) + len(other.marks)
     if many > MOST_MARKS:
         raise TooMany(many)
@@ -175,11 +176,6 @@ def _is_number(word, by):
     if number is None:
         return False
     return 0 <= number < by if by > 0 else abs(number) <= GREATEST
-
-
-def _need_one_sort(one, other):
-    if one.by != other.by or one.kinds != other.kinds:
-        raise OtherKinds(other)
 
 
 def _need_small(numbers):

@@ -21,3 +21,13 @@ def is_by(value):
 def is_row(value, book, many):
     """Whether a value is a tuple of so many names of marks of a book."""
     return isinstance(value, tuple) and len(value) == many and all([mark in book for mark in value])
+
+
+def is_short_row(value, book, most):
+    """Whether a value is a tuple of at most so many names of marks of a book."""
+    return isinstance(value, tuple) and len(value) <= most and is_row(value, book, len(value))
+
+
+def gates_to(many):
+    """The tuple of the gates from 1 to so many."""
+    return tuple(range(1, many + 1))

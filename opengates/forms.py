@@ -4,7 +4,7 @@
 ascending tuple of its gates. What is read is None if it cannot stand there.
 """
 
-from opengates.words import factor_of, factor_word, gate_of, is_letters, is_line_name
+from opengates.words import factor_of, gate_of, is_letters, is_line_name, worth_word
 
 
 def read_line(text, gates):
@@ -47,7 +47,7 @@ def write_form(form, parts):
     if form == "*":
         return f"{parts[0]} * {parts[1]}"
     if form == "add":
-        words = [f"{factor_word(factor)} {operand}" for factor, operand in parts]
+        words = [f"{worth_word(factor)} {operand}" for factor, operand in parts]
     else:
         words = [str(part) for part in parts]
     return " ".join([form, *words])

@@ -7,6 +7,8 @@ FIGURES = "0123456789"
 # They begin a text or a form, so an operand of such a name could be taken for a form.
 NO_NAMES = ("script", "around", "one", "road", "close", "turn", "add")
 MOST_FIGURES = 1000
+PART_FIGURES = 64
+PART = 10 ** 64
 
 
 def integer_of(word, most):
@@ -49,12 +51,24 @@ def factor_of(word):
     return (top, bottom)
 
 
-def factor_word(factor):
-    """The word by which a script tells a factor."""
-    top, bottom = factor
-    return f"{top}" if bottom == 1 else f"{top}/{bottom}"
+def worth_word(worth):
+    """The word by which a factor of a script, or any worth, is told."""
+    top, bottom = worth
+    return _written(top) if bottom == 1 else f"{_written(top)}/{_written(bottom)}"
 
 
 def _is_of(word, signs):
     """Whether a word has signs, and only these."""
     return len(word) > 0 and all([sign in signs for sign in word])
+
+
+def _written(number):
+    """An integer as Python writes it."""
+    rest = abs(number)
+    parts = []
+    # Python itself refuses to write very long integers at once.
+    while rest >= PART:
+        rest, part = divmod(rest, PART)
+        parts.append(str(part).zfill(PART_FIGURES))
+    figures = "".join([str(rest), *parts[::-1]])
+    return f"-{figures}" if number < 0 else figures

@@ -11,11 +11,16 @@ from opengates.worths import NOUGHT, UNIT, paired_sum, plus, times, worth_of
 
 
 def need_fit(book, script):
+    """Raises the script errors of a script."""
+    need_fitting_lines(book, script.lines)
+
+
+def need_fitting_lines(book, lines):
     """Raises script errors: kinds that the book has not, ahead of factors that it cannot take."""
-    for _, form, parts in script.lines:
+    for _, form, parts in lines:
         if form == "road" and parts[0] not in book.kinds:
             raise NoKind(parts[0])
-    for _, form, parts in script.lines:
+    for _, form, parts in lines:
         if form == "add" and book.by > 0:
             _need_factors(book.by, parts)
 
@@ -56,6 +61,19 @@ def laid_together(book, gates, one, other):
     ones = _spread(book, gates, one[0], one[1])
     others = _spread(book, gates, other[0], other[1])
     return tuple([times(book.by, its, more) for its, more in zip(ones, others)])
+
+
+def row_weight(book, row):
+    """The product of the weights of a row's marks, a worth."""
+    weight = 1
+    for mark in row:
+        weight = weight * book.weight(mark)
+    return worth_of(book.by, weight, 1)
+
+
+def row_weights(book, many):
+    """The weights of all rows of so many marks, as they stand."""
+    return [row_weight(book, row) for row in rows_of(book.marks, many)]
 
 
 def _need_factors(by, parts):

@@ -11,7 +11,7 @@ FILES = sorted(FOLDER.rglob("*.py"))
 TREES = {path: ast.parse(path.read_text()) for path in FILES}
 
 STATEMENTS = (ast.FunctionDef, ast.ClassDef, ast.Return, ast.Assign, ast.AugAssign, ast.For, ast.While, ast.If, ast.Raise,
-              ast.Expr, ast.Pass, ast.Break, ast.Continue, ast.ImportFrom)
+              ast.Expr, ast.Pass, ast.Break, ast.Continue, ast.ImportFrom, ast.Try, ast.ExceptHandler, ast.With, ast.withitem)
 PARTS = (ast.Module, ast.expr_context, ast.operator, ast.unaryop, ast.boolop, ast.cmpop, ast.arguments, ast.arg,
          ast.keyword, ast.comprehension)
 EXPRESSIONS = (ast.Name, ast.Constant, ast.Tuple, ast.List, ast.Dict, ast.BinOp, ast.UnaryOp, ast.BoolOp, ast.Compare,
@@ -19,12 +19,12 @@ EXPRESSIONS = (ast.Name, ast.Constant, ast.Tuple, ast.List, ast.Dict, ast.BinOp,
                ast.FormattedValue, ast.Starred)
 BUILTINS = set("""len range enumerate zip min max sum abs sorted reversed int str bool list tuple dict set isinstance ord
     repr any all divmod ValueError TypeError NotImplemented""".split())
-LIBRARY = {"math": {"gcd", "lcm"}}
+LIBRARY = {"math": {"gcd", "lcm", "isqrt"}}
 METHODS = set("""append clear copy count endswith extend find get index insert isalnum isalpha isdigit islower isspace
     isupper items join keys ljust lower lstrip partition pop remove replace reverse rfind rjust rpartition rsplit rstrip
     setdefault split splitlines startswith strip update upper values zfill bit_length removeprefix removesuffix""".split())
 DOUBLE = set("""__init__ __eq__ __repr__ __str__ __len__ __contains__ __add__ __sub__ __mul__ __neg__ __getitem__
-    __iter__""".split())
+    __iter__ __enter__ __exit__""".split())
 NOWHERE = set("""register mro elements open input law version_info with_traceback add_note""".split())
 NO_NAMES = set("""attrgetter breakpoint builtins compile copyright credits delattr dir eval exec exit gc getattr globals
     hasattr help id importlib license locals methodcaller os quit setattr super type vars sys""".split())
@@ -56,6 +56,8 @@ def bound_names(tree):
             found.add(node.arg)
         elif isinstance(node, ast.alias):
             found.add(node.asname or node.name)
+        elif isinstance(node, ast.ExceptHandler) and node.name is not None:
+            found.add(node.name)
     return found
 
 
@@ -193,7 +195,7 @@ class NamesAndCalls(unittest.TestCase):
             if isinstance(node.ctx, ast.Store):
                 self.assertNotIn(node.attr, barred | NOWHERE | own_methods(), name)
                 self.assertIsInstance(node.value, ast.Name)
-        self.assertEqual(own_methods() & barred - DOUBLE, set())
+        self.assertEqual(own_methods() & barred - DOUBLE - {"copy"}, set())
 
     def test_sets_are_only_sorted_or_measured(self):
         for path, tree in TREES.items():
@@ -209,7 +211,7 @@ class Classes(unittest.TestCase):
         for name, node in nodes(ast.FunctionDef):
             if node.name.startswith("__"):
                 self.assertIn(node.name, DOUBLE, name)
-            if node.name in DOUBLE - {"__init__", "__iter__"}:
+            if node.name in DOUBLE - {"__init__", "__iter__", "__exit__"}:
                 self.assertIsInstance(node.body[-1], ast.Return, name)
 
     def test_who_is_asked_by_an_index_is_not_iterated_over(self):
@@ -233,8 +235,12 @@ class Classes(unittest.TestCase):
                 self.assertIn(getattr(getattr(node.args[0], "func", None), "id", None), ("list", "tuple", "sorted", "range"), name)
             if called in ("zip", "enumerate", "range"):
                 parents = [part for _, part in nodes((ast.For, ast.comprehension)) if part.iter is node]
+                # A range may be kept, by one name.
+                parents += [part for _, part in nodes(ast.Assign) if part.value is node and called == "range"
+                            and isinstance(part.targets[0], ast.Name)]
                 outer = [part for _, part in nodes(ast.Call) if node in part.args and isinstance(part.func, ast.Name)
-                         and part.func.id in ("tuple", "list", "sorted", "zip", "enumerate", "sum", "any", "all", "dict")]
+                         and part.func.id in ("tuple", "list", "sorted", "zip", "enumerate", "sum", "any", "all", "dict")
+                         or node in part.args and called == "range" and getattr(part.func, "id", None) == "reversed"]
                 self.assertTrue(parents or outer, (name, node.lineno))
 
     def test_exponents_are_literals(self):
@@ -247,7 +253,11 @@ class Classes(unittest.TestCase):
         functions = {}
         for _, node in nodes(ast.FunctionDef):
             functions.setdefault(node.name, []).append(node)
-        ready = [name for name in OPERATORS if name in functions] + ["__init__"]
+        for _, node in nodes(ast.ClassDef):
+            # A class that is called runs its own __init__; that may change its own object alone.
+            functions[node.name] = [part for part in node.body if getattr(part, "name", None) == "__init__"]
+        classes = {node.name for _, node in nodes(ast.ClassDef)}
+        ready = [name for name in OPERATORS if name in functions]
         seen = set()
         while ready:
             name = ready.pop()
@@ -256,7 +266,8 @@ class Classes(unittest.TestCase):
             seen.add(name)
             called = [node.func for own in functions[name] for node in ast.walk(own) if isinstance(node, ast.Call)]
             ready += [part.id if isinstance(part, ast.Name) else part.attr for part in called]
-        for name, node in [(name, node) for name in seen - {"__init__"} for node in functions[name]]:
+        self.assertLessEqual({"Book", "Script", "Table"} & seen, seen)
+        for name, node in [(name, node) for name in seen - classes for node in functions[name]]:
             fresh = {part.targets[0].id for part in ast.walk(node) if isinstance(part, ast.Assign)
                      and isinstance(part.targets[0], ast.Name)
                      and isinstance(part.value, (ast.List, ast.Dict, ast.ListComp, ast.DictComp))}
@@ -267,6 +278,23 @@ class Classes(unittest.TestCase):
                     self.assertIn(getattr(part.value, "id", None), fresh, name)
                 if isinstance(part, ast.AugAssign):
                     self.assertIsInstance(part.value, ast.Constant, name)
+
+    def test_errors_that_are_caught_are_own_ones(self):
+        own = {node.name for node in TREES[FOLDER / "errors.py"].body if isinstance(node, ast.ClassDef)}
+        for name, node in nodes(ast.ExceptHandler):
+            caught = node.type.elts if isinstance(node.type, ast.Tuple) else [node.type]
+            self.assertLessEqual({part.id for part in caught}, own, name)
+        for name, node in nodes(ast.Raise):
+            self.assertLessEqual({node.exc.func.id}, own | {"TypeError"}, name)
+        self.assertEqual([node for _, node in nodes(ast.Try) if node.finalbody], [])
+
+    def test_what_leaves_a_block_only_assigns(self):
+        for name, node in nodes(ast.FunctionDef):
+            if node.name == "__exit__":
+                for part in ast.walk(node):
+                    self.assertNotIsInstance(part, (ast.Call, ast.BinOp, ast.For, ast.While, ast.Raise, ast.Subscript), name)
+                    if isinstance(part, ast.Compare):
+                        self.assertTrue(all(isinstance(sign, (ast.Is, ast.IsNot)) for sign in part.ops))
 
 
 if __name__ == "__main__":
