@@ -4,8 +4,10 @@ import copy
 
 from opengates.arounds import Around
 from opengates.books import Book
+from opengates.desk import Desk
 from opengates.scripts import Script
 from opengates.tables import Table, table
+from opengates.yard import Yard
 
 
 def nested(value, depth):
@@ -23,7 +25,7 @@ def not_strings():
         Book("book 0\nmark a 1\nkind k 1"), Script("script\na = one 1"),
         [Book("book 0\nmark a 1\nkind k 1")], (Script("script\na = one 1"), {"a": ()}),
         Around("around h 1\na = close 1 h"), table(Book("book 0\nmark a 1\nkind k 1"), Script("script\na = one 1")),
-        (Around("around h\na = add 1 h"),),
+        (Around("around h\na = add 1 h"),), Yard(Book("book 0\nmark a 1\nkind k 1")), [Desk("book 0\nmark a 1\nkind k 1\nyard")],
     ]
 
 
@@ -60,8 +62,21 @@ def looks(value):
     """All that can be seen of a value, its kinds and what objects hold included."""
     if isinstance(value, (Around, Book, Script, Table)):
         return (type(value).__name__, looks(vars(value)))
+    if isinstance(value, Yard):
+        # What is worked out already is not seen.
+        return ("Yard", looks((value.book, value.names, value.text, value.done, value.deeds)), undone(value))
+    if isinstance(value, Desk):
+        return ("Desk", looks(value.yard))
     if isinstance(value, (tuple, list)):
         return (type(value).__name__, [looks(part) for part in value])
     if isinstance(value, dict):
         return ("dict", [(looks(key), looks(part)) for key, part in value.items()])
     return (type(value).__name__, copy.deepcopy(value))
+
+
+def undone(yard):
+    """The deeds of a yard that can be done again."""
+    other = yard.copy()
+    while error_of(other.redo) is None:
+        pass
+    return other.deeds[yard.done:]

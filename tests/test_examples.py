@@ -6,7 +6,8 @@ import unittest
 
 FOLDER = pathlib.Path(__file__).parent / "examples"
 SHARED = pathlib.Path(__file__).parent.parent.parent / "shared" / "DOC.md"
-HOW_MANY = {"books": 9, "scripts": 7, "nets": 9, "tables": 11, "arounds": 9, "spans": 8}
+HOW_MANY = {"books": 9, "scripts": 7, "nets": 9, "tables": 11, "arounds": 9, "spans": 8, "lots": 9,
+            "made": 11, "nothing": 10, "alike": 12, "lengths": 14, "yard": 12, "desk": 6}
 
 
 class Examples(unittest.TestCase):
@@ -35,6 +36,27 @@ class Examples(unittest.TestCase):
 
     def test_spans(self):
         self.run_examples("spans")
+
+    def test_lots(self):
+        self.run_examples("lots")
+
+    def test_made(self):
+        self.run_examples("made")
+
+    def test_nothing(self):
+        self.run_examples("nothing")
+
+    def test_alike(self):
+        self.run_examples("alike")
+
+    def test_lengths(self):
+        self.run_examples("lengths")
+
+    def test_yard(self):
+        self.run_examples("yard")
+
+    def test_desk(self):
+        self.run_examples("desk")
 
     @unittest.skipUnless(SHARED.exists(), "the document is not beside this checkout")
     def test_these_are_the_words_of_the_document(self):

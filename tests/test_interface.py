@@ -5,7 +5,7 @@ import inspect
 import pathlib
 import unittest
 
-from opengates import arounds, books, nets, scripts, spans, tables
+from opengates import alike, arounds, books, desk, journals, lengths, lots, made, nets, nothing, scripts, spans, tables, yard
 from opengates.arounds import Around
 from opengates.books import Book
 from opengates.scripts import Script
@@ -38,8 +38,41 @@ PARAMETERS = {
         "in_span": ["by", "rows", "row"], "shows_in_span": ["by", "rows", "row", "value"], "kernel": ["by", "rows"],
         "shows_kernel": ["by", "rows", "value"], "determinant": ["by", "rows"],
     },
+    "lots": {
+        "lots": ["books", "k"], "shows_stable": ["books", "k", "value"], "same_lot": ["book", "k", "one", "other"],
+        "shows_same_lot": ["book", "k", "one", "other", "value"], "lot_weights": ["book", "k", "m"], "orbits": ["book", "m"],
+    },
+    "made": {
+        "made": ["book", "k", "m", "worths"], "shows_made": ["book", "k", "m", "worths", "value"], "pure": ["book", "k", "row"],
+        "shows_pure": ["book", "k", "row", "value"], "spanning": ["book", "k", "m"], "shows_spanning": ["book", "k", "m", "value"],
+    },
+    "nothing": {
+        "nothing": ["book", "k", "script"], "shows_nothing": ["book", "k", "script", "value"],
+        "same_everywhere": ["book", "k", "one", "other"], "shows_same_everywhere": ["book", "k", "one", "other", "value"],
+        "matters": ["book", "k", "m"], "shows_matters": ["book", "k", "m", "value"],
+        "relations": ["book", "k", "scripts"], "shows_relations": ["book", "k", "scripts", "value"],
+    },
+    "alike": {
+        "alike": ["one", "other", "k"], "shows_alike": ["one", "other", "k", "value"], "least_width": ["one", "other"],
+        "kinds_of": ["books", "k"], "parted": ["books", "k"], "shows_parted": ["books", "k", "value"],
+    },
+    "lengths": {
+        "row_script": ["script", "n"], "ring_script": ["script", "n"], "in_row": ["book", "script", "n"],
+        "in_ring": ["book", "script", "n"], "recurrence": ["book", "script"],
+        "rows_alike": ["one", "script", "other", "its"], "rings_alike": ["one", "script", "other", "its"],
+    },
+    "yard": {
+        "Yard": ["book"], "Yard.line": ["self", "text"], "Yard.exchange": ["self", "name", "text"], "Yard.drop": ["self", "name"],
+        "Yard.gates_of": ["self", "name"], "Yard.worths_of": ["self", "name"], "Yard.closed": ["self", "name"],
+        "Yard.script": ["self", "name"], "Yard.undo": ["self"], "Yard.redo": ["self"], "Yard.trial": ["self"],
+        "Yard.keep": ["self"], "Yard.tried": ["self", "look", "keep"], "Yard.copy": ["self"],
+        "Yard.__contains__": None, "Yard.__eq__": None,
+    },
+    "journals": {"journal": ["yard"], "read_journal": ["text"]},
+    "desk": {"Desk": ["text"], "Desk.say": ["self", "line"]},
 }
-MODULES = {"books": books, "scripts": scripts, "nets": nets, "tables": tables, "arounds": arounds, "spans": spans}
+MODULES = {"books": books, "scripts": scripts, "nets": nets, "tables": tables, "arounds": arounds, "spans": spans, "lots": lots,
+           "made": made, "nothing": nothing, "alike": alike, "lengths": lengths, "yard": yard, "journals": journals, "desk": desk}
 
 
 def defined(name):
@@ -113,6 +146,22 @@ class Interface(unittest.TestCase):
         self.assertLessEqual({"text", "gates", "width", "lines", "is_plain"}, set(vars(script)))
         self.assertLessEqual({"book", "gates", "rows", "worths"}, set(vars(tables.table(book, script))))
         self.assertLessEqual({"text", "hole", "gates", "width", "lines"}, set(vars(arounds.around_of(script))))
+        self.assertLessEqual({"book", "names", "text", "done"}, set(vars(yard.Yard(book))))
+        self.assertLessEqual({"yard"}, set(vars(desk.Desk(book.text + "\nyard"))))
+
+    def test_each_name_of_the_interface_is_asked_here(self):
+        document = FOLDER.parent.parent / "shared" / "DOC.md"
+        if not document.exists():
+            self.skipTest("the document is not beside this checkout")
+        attributes = {"text", "by", "marks", "kinds", "gates", "width", "lines", "is_plain", "book", "rows", "worths", "hole", "names", "done", "yard"}
+        for line in document.read_text().split("\n"):
+            if line.startswith("- opengates/") and "errors.py" not in line:
+                module, _, rest = line.removeprefix("- opengates/").rstrip(".").partition(".py: ")
+                for part in rest.replace("),", ");").replace(", ", ";").split(";"):
+                    words = part.replace("(", " ").replace(")", " ").split()
+                    for word in words:
+                        told = [name.split(".")[-1] for name in PARAMETERS[module]]
+                        self.assertIn(word, set(told) | attributes, module)
 
 
 if __name__ == "__main__":

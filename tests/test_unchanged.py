@@ -2,13 +2,22 @@
 
 import unittest
 
+from opengates.alike import alike, kinds_of, least_width, parted, shows_alike, shows_parted
 from opengates.arounds import about, Around, around_of, filled, paired
 from opengates.books import Book, joined, melted, multiplied, renamed, renamings, twins
+from opengates.desk import Desk
 from opengates.errors import GateError
+from opengates.journals import journal, read_journal
+from opengates.lengths import in_ring, in_row, recurrence, ring_script, rings_alike, row_script, rows_alike
+from opengates.lots import lot_weights, lots, orbits, same_lot, shows_same_lot, shows_stable
+from opengates.made import made, pure, shows_made, shows_pure, shows_spanning, spanning
 from opengates.nets import by_ways, net, script_of
+from opengates.nothing import matters, nothing, relations, same_everywhere
+from opengates.nothing import shows_matters, shows_nothing, shows_relations, shows_same_everywhere
 from opengates.scripts import exchanged, Script
 from opengates.spans import determinant, in_span, kernel, shows_in_span, shows_kernel
 from opengates.tables import count, line_tables, Table, table
+from opengates.yard import Yard
 from tests.helpers import any_values, looks
 
 
@@ -87,6 +96,36 @@ def calls_of_arounds_and_spans():
     return found
 
 
+def calls_of_lots_and_more():
+    book, script = books()[0], scripts()[1]
+    family = lots((book,), 1)
+    found = []
+    for value in any_values() + [family, list(family), [book], (book,), (book, book), ["a"], ("a",), [[(1, 1)]], ("same", [family]), 1, 2]:
+        found += [(call, [value, 1]) for call in (lots, kinds_of, parted)]
+        found += [(call, [(book, book), 1, value]) for call in (shows_stable, shows_parted)]
+        found += [(call, [book, value]) for call in (orbits,)]
+        found += [(call, [book, 2, value]) for call in (lot_weights, pure, spanning, matters, relations)]
+        found += [(same_lot, [book, 2, value, value]), (same_lot, [book, value, ("a",), ("b",)]), (shows_same_lot, [book, 2, ("a",), ("b",), value]),
+                  (made, [book, 2, 1, value]), (shows_made, [book, 2, 1, value, value]), (shows_made, [book, 2, 1, ((1, 1), (0, 1)), value]),
+                  (shows_pure, [book, 2, ("a",), value]), (shows_spanning, [book, 2, 1, value]), (nothing, [book, value, script]),
+                  (shows_nothing, [book, 2, script, value]), (same_everywhere, [book, value, script, script]), (shows_matters, [book, 2, 1, value]),
+                  (shows_same_everywhere, [book, 2, script, script, value]), (shows_relations, [book, 2, (script,), value]),
+                  (shows_relations, [book, 2, value, value]), (alike, [book, book, value]), (shows_alike, [book, book, 1, value]),
+                  (row_script, [script, value]), (ring_script, [script, value]), (in_row, [book, script, value]), (in_ring, [book, script, value]),
+                  (read_journal, [value]), (Desk, [value])]
+        for name in ("line", "exchange", "drop", "gates_of", "worths_of", "closed", "script"):
+            held = Yard(book)
+            held.line("a = one 1")
+            found.append((lambda held, name, value: getattr(held.copy(), name)(*([value, value] if name == "exchange" else [value])), [held, name, value]))
+        found.append((lambda value: Desk(book.text + "\nyard").say(value), [value]))
+    for one in books():
+        for other in books():
+            found += [(least_width, [one, other]), (alike, [one, other, 1]), (rows_alike, [one, script, other, script]), (rings_alike, [one, script, other, script])]
+        found += [(recurrence, [one, script]), (nothing, [one, 3, script]), (same_everywhere, [one, 3, script, -script]), (relations, [one, 3, (script, script)])]
+        found += [(journal, [Yard(one)]), (Yard, [one])]
+    return found
+
+
 def calls():
     """Pairs of a function and its arguments, of all that books and scripts can be asked."""
     found = []
@@ -111,7 +150,7 @@ def calls():
         found += [(Book, [value]), (Script, [value]), (Around, [value]), (script_of, [value]), (by_ways, [books()[0], value, value]),
                   (in_span, [value, value, value]), (in_span, [0, value, value]), (in_span, [0, matrices()[0], value]),
                   (shows_in_span, [0, matrices()[0], matrices()[0][0], value]), (shows_kernel, [0, matrices()[0], value])]
-    return found + calls_of_nets_and_tables() + calls_of_arounds_and_spans()
+    return found + calls_of_nets_and_tables() + calls_of_arounds_and_spans() + calls_of_lots_and_more()
 
 
 def outcome(call, arguments):
@@ -147,10 +186,10 @@ class Unchanged(unittest.TestCase):
         def only_fixed(value):
             if isinstance(value, (tuple, Table)):
                 return all(only_fixed(part) for part in (value if isinstance(value, tuple) else vars(value).values()))
-            return isinstance(value, (int, str, Around, Book, Script))
+            return value is None or isinstance(value, (int, str, Around, Book, Script, Yard, Desk))
 
         many = 0
-        for call, arguments in calls_of_nets_and_tables() + calls_of_arounds_and_spans():
+        for call, arguments in calls_of_nets_and_tables() + calls_of_arounds_and_spans() + calls_of_lots_and_more():
             try:
                 told = call(*arguments)
             except GateError:
