@@ -269,6 +269,16 @@ class SeveralBooks(unittest.TestCase):
         self.assertIs(shows_parted(books[1:], 1, (lone,)), True)
         self.assertIs(shows_parted(books, 1, (lone, "script\nx = road k 1 1\ny = close 1 x")), True)
 
+    def test_just_as_many_rows_as_are_let(self):
+        books = (catalog.SQUARE, catalog.SAME, catalog.EQUAL, catalog.SAME)
+        self.assertEqual(how_many_rows(books, 3), 130)
+        self.assertEqual(kinds_of(books, 3), ((0,), (1, 3), (2,)))
+        self.assertIs(shows_parted(books, 3, parted(books, 3)), True)
+        books = (catalog.PATH, catalog.ONE, catalog.ONE)
+        for call, *more in ((kinds_of,), (parted,), (shows_parted, ())):
+            expect(self, TooMany, 131, call, books, 4, *more)
+        self.assertEqual(kinds_of(books[:2], 4), ((0,), (1,)))
+
     def test_the_most_rows(self):
         books = (catalog.SQUARE,) * 5
         expect(self, TooMany, 5 * 85, kinds_of, books, 3)

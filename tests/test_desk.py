@@ -71,7 +71,7 @@ class Refusals(unittest.TestCase):
     lines = ["", " ", "  ", "names ", " names", "Names", "names x", "name", "undo undo", "redo x", "gates", "gates r p", "worth", "closed", "closed r p", "tell",
              "tell r p", "line", "exchange", "exchange p", "exchange p =", "exchange p = ", "exchange p one 1", "exchange p = one  1", "exchange p q = one 1",
              "drop", "drop r p", "gates  r", "gates r ", " gates r", "worth  n", "line  q = one", "line q = one ", "names\n", "names\nundo", "\nnames", "say names",
-             "journal", "text", "keep", "trial", "done", "copy", "line q = one\n", "drop r\n", "exchange  p = one 1", "line\nq = one", "none", "ok", "yard"]
+             "journal", "text", "keep", "trial", "done", "copy", "line q = one\n", "drop r\n", "exchange  p = one 1", "line\nq = one", "none", "ok", "yard", "swap p = one 1", "Exchange p = one 1", "q = one", "p = one 1", "Line q = one", "Drop h", "worths p a"]
 
     def test_lines_of_none_of_these_forms(self):
         desk = Desk(SOME)

@@ -144,7 +144,7 @@ class Journals(unittest.TestCase):
         head = BOOK.text + "\nyard\n"
         for text, number in (("line a = one 1\nline a = one 2", 7), ("line a = road f 1 2", 6), ("drop a", 6), ("line a = one 1\nexchange a = one 2", 7), ("yard", 6),
                              ("line a = one 1\nline b = a * a\ndrop a", 8), ("line a = one 1\nexchange a = a * a", 7), ("line a = one 1\nundo", 7), ("", 6),
-                             ("line a = one 1\n", 7), ("line a = one 1\nexchange b = one 1", 7), ("line a = one 1 ", 6)):
+                             ("line a = one 1\n", 7), ("line a = one 1\nswap a = one 1", 7), ("line a = one 1\nExchange a = one 1", 7), ("a = one 1", 6), ("line a = one 1\nexchange b = one 1", 7), ("line a = one 1 ", 6)):
             expect(self, BadJournal, number, read_journal, head + text)
         prime = catalog.BY_TWO.text + "\nyard\nline a = one 1\n"
         expect(self, BadJournal, 7, read_journal, prime + "line b = add 1/2 a")

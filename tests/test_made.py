@@ -110,6 +110,11 @@ class Made(unittest.TestCase):
             self.assertEqual(made(catalog.LOPSIDED, 2, 1, (worths[0], (1, 1)))[0], "script")
             found = made(catalog.LOPSIDED, 2, 1, (worths[0], (-1, 2 ** 5000)))
             self.assertIs(shows_made(catalog.LOPSIDED, 2, 1, (worths[0], (-1, 2 ** 5000)), found), True)
+        for great in ((10 ** 1000, 1), (10 ** 1000 - 1, 1), (-10 ** 1000, 10 ** 1000 - 1), (1, 10 ** 1000), (-1, 10 ** 1000 - 1), (7 ** 9000, 6 ** 2001),
+                      (5, 6 ** 1286), (-3, 2 * (10 ** 600 + 7) ** 4), (5 ** 3000, 2 ** 3321)):
+            worths = (great, (1, 3))
+            self.assertIs(shows_made(catalog.LOPSIDED, 2, 1, worths, made(catalog.LOPSIDED, 2, 1, worths)), True)
+            self.assertEqual(table(catalog.LOPSIDED, Script(made(catalog.LOPSIDED, 2, 1, worths)[1])).worths, worths)
         worths = table(catalog.LOPSIDED, script * script).worths
         self.assertIs(shows_made(catalog.LOPSIDED, 2, 1, worths, made(catalog.LOPSIDED, 2, 1, worths)), True)
 
